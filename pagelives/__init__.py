@@ -1,0 +1,1 @@
+"""Pagelives: pages freed and used anew, and every stop of their store."""
