@@ -161,6 +161,12 @@ INTERFACE = {
     "logs": "life_in owner_in due_in pages_in put_in puts_in struck_in",
     "rulevalues": "Rule Without",
     "deedtexts": "deed_text record_text rule_text history_text",
+    "deedreadings": "read_deed read_record read_rule read_deeds",
+    "deedrows": "Deeds",
+    "stores": "first_store store_after",
+    "deedbars": "barred_by deeds_now after_deed",
+    "historychecker": "is_history lets_history",
+    "looks": "set_on held_on life_on owner_of",
 }
 
 if __name__ == "__main__":
