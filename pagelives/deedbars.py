@@ -19,9 +19,7 @@ def deeds_now(rule, history, *pages):
     """The set of the deeds that no word bars, with pages of the history or these, or without a page."""
     store = usable_store(rule, history)
     need_all([is_page(page) for page in pages], "pages")
-    named = ascending([row[0] for row in store[4]] + list(pages))
-    deeds = deeds_with(named) + deeds_without(store[1])
-    return ascending([deed for deed in deeds if not words_against(rule, store, deed)])
+    return deeds_at(rule, store, pages)
 
 
 def after_deed(rule, history, deed):
@@ -33,6 +31,13 @@ def after_deed(rule, history, deed):
     if words:
         raise InvalidDeed(deed, words[0])
     return history + (deed,)
+
+
+def deeds_at(rule, store, pages):
+    """The set of the deeds that no word bars, with pages of the store or these, or without a page."""
+    named = ascending([row[0] for row in store[4]] + list(pages))
+    deeds = deeds_with(named) + deeds_without(store[1])
+    return ascending([deed for deed in deeds if not words_against(rule, store, deed)])
 
 
 def deeds_with(pages):

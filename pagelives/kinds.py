@@ -52,6 +52,18 @@ def is_guard(thing):
     return isinstance(thing, str) and thing in GUARDS
 
 
+def is_harm(thing):
+    """Whether a value is one of the three harms."""
+    return isinstance(thing, str) and thing in HARMS
+
+
+def are_harms(thing):
+    """Whether a value is a nonempty tuple of different harms, in any order."""
+    if not isinstance(thing, tuple) or not all([is_harm(harm) for harm in thing]):
+        return False
+    return 0 < len(thing) == len(set(thing))
+
+
 def deed_parts(word):
     """The kinds of what stands behind the word of a deed, None if no deed has it."""
     return DEED_PARTS.get(word)

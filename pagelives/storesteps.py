@@ -10,6 +10,13 @@ from pagelives.orders import ascending
 FIRST = ((), 0, 0, (0,), (), None)
 
 
+def store_through(rule, store, deeds):
+    """The store behind these deeds, done one by one from this store on."""
+    for deed in deeds:
+        store = store_behind(rule, store, deed)
+    return store
+
+
 def store_behind(rule, store, deed):
     """The store behind a deed that is possible and not barred."""
     word = deed[0]

@@ -3,13 +3,14 @@
 import inspect
 import unittest
 
-from pagelives.deedbars import after_deed, barred_by, deeds_now
+from pagelives.deedbars import after_deed, barred_by
 from pagelives.deedreadings import read_deeds
 from pagelives.errors import InvalidPaper, NotUsable
 from pagelives.historychecker import is_history, lets_history
 from pagelives.kinds import GUARDS
 from pagelives.logs import puts_in
 from pagelives.stores import store_after
+from tests.draws import short_histories
 from tests.samples import ALL, LOG, ODD, OLD, Case
 
 
@@ -95,15 +96,6 @@ class Consequences(Case):
             self.same(barred_by(rule, deeds, ("end",)), ())
             ends.append(store_after(rule, deeds + (("end",),)))
         self.same(ends[0], ends[1])
-
-
-def short_histories(rule, many, pages):
-    """All histories by the rule with at most so many deeds, of these pages."""
-    found = last = [()]
-    for _ in range(many):
-        last = [history + (deed,) for history in last for deed in deeds_now(rule, history, *pages)]
-        found = found + last
-    return found
 
 
 if __name__ == "__main__":

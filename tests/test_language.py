@@ -167,6 +167,13 @@ INTERFACE = {
     "deedbars": "barred_by deeds_now after_deed",
     "historychecker": "is_history lets_history",
     "looks": "set_on held_on life_on owner_of",
+    "stops": "left_by_stop harms_by_stop harms_now going_deeds",
+    "storeclasses": "Store Careful",
+    "storepictures": "picture",
+    "stands": "FIRST_STAND is_stand stand_of stands_of",
+    "follows": "follows",
+    "closures": "all_stands harms_of is_harmless",
+    "searches": "harm_history",
 }
 
 if __name__ == "__main__":

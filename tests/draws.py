@@ -1,0 +1,45 @@
+"""Histories that tests go through: all short ones, and long ones that look drawn."""
+
+from pagelives.deedbars import deeds_now
+
+SELDOM = ("stop", "strike", "point")
+
+
+class Draws:
+    """Numbers that look drawn, and are the same in each run."""
+
+    def __init__(self, start):
+        self.now = start
+
+    def below(self, many):
+        """A number that is less than many."""
+        self.now = (self.now * 6364136223846793005 + 1442695040888963407) % 2 ** 64
+        return (self.now >> 33) % many
+
+    def one_of(self, things):
+        """One of these things."""
+        return things[self.below(len(things))]
+
+    def some_of(self, things, part=2):
+        """About one in part of these things, in their order."""
+        return tuple([thing for thing in things if self.below(part) == 0])
+
+    def history(self, rule, many, pages, start=()):
+        """A history by the rule, with so many deeds behind those of start."""
+        history = start
+        for _ in range(many):
+            deeds = deeds_now(rule, history, *pages)
+            deed = self.one_of(deeds)
+            if deed[0] in SELDOM:
+                deed = self.one_of(deeds)
+            history = history + (deed,)
+        return history
+
+
+def short_histories(rule, many, pages):
+    """All histories by the rule with at most so many deeds, of these pages."""
+    found = last = [()]
+    for _ in range(many):
+        last = [history + (deed,) for history in last for deed in deeds_now(rule, history, *pages)]
+        found = found + last
+    return found
