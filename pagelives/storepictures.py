@@ -13,7 +13,8 @@ def picture_lines(store):
     """The line of the store, and one for each of its pages."""
     log, sealed, point, _, rows, going = store
     word = "runs" if going is None else "goes"
-    return [f"{word} {point} {sealed} {len(log)}"] + [page_line(log, row) for row in rows]
+    lines = [page_line(log, row) for row in rows]
+    return [f"{word} {point} {sealed} {len(log)}", *lines]
 
 
 def page_line(log, row):

@@ -1,6 +1,8 @@
 """Histories that tests go through: all short ones, and long ones that look drawn."""
 
-from pagelives.deedbars import deeds_now
+from pagelives.deedbars import deeds_at, deeds_now
+from pagelives.historychecker import is_history
+from pagelives.storesteps import FIRST, store_behind
 
 SELDOM = ("stop", "strike", "point")
 
@@ -24,9 +26,11 @@ class Draws:
         """About one in part of these things, in their order."""
         return tuple([thing for thing in things if self.below(part) == 0])
 
-    def history(self, rule, many, pages, start=()):
-        """A history by the rule, with so many deeds behind those of start."""
-        history = start
+    def history(self, rule, many, pages, starts=((),)):
+        """A history by the rule, with so many deeds behind one of starts, or behind none where this is no history."""
+        history = self.one_of(starts)
+        if not is_history(rule, history):
+            history = ()
         for _ in range(many):
             deeds = deeds_now(rule, history, *pages)
             deed = self.one_of(deeds)
@@ -43,3 +47,19 @@ def short_histories(rule, many, pages):
         last = [history + (deed,) for history in last for deed in deeds_now(rule, history, *pages)]
         found = found + last
     return found
+
+
+def deeds_tried(rule, most, pages):
+    """The triples (how many came before, store, deed) of all deeds of histories by the rule, each store but once."""
+    seen = {FIRST}
+    last = [FIRST]
+    for many in range(most):
+        new = []
+        for store in last:
+            for deed in deeds_at(rule, store, pages):
+                yield many, store, deed
+                behind = store_behind(rule, store, deed)
+                if behind not in seen:
+                    seen.add(behind)
+                    new.append(behind)
+        last = new

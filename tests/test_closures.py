@@ -128,10 +128,8 @@ class Histories(Case):
         harms = set()
         for n in range(200):
             rule = draws.some_of(ALL, 4)
-            start = draws.one_of(STARTS)
-            start = start if is_history(rule, start) else ()
             pages = ("a", "b", "c")[:1 + n % 3]
-            history = draws.history(rule, 10, pages, start)
+            history = draws.history(rule, 10, pages, STARTS)
             self.check(rule, history, pages, set(all_stands(rule)))
             harms = harms | {harm for k in range(len(history)) for harm, _ in harms_now(rule, history[:k + 1])}
         self.assertEqual(harms, set(HARMS))

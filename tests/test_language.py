@@ -174,6 +174,12 @@ INTERFACE = {
     "follows": "follows",
     "closures": "all_stands harms_of is_harmless",
     "searches": "harm_history",
+    "standchecker": "lets_stands",
+    "harmpapers": "harm_paper",
+    "harmchecker": "lets_harm",
+    "likeness": "have_same_harms is_included have_same_histories parting_history",
+    "standclasses": "Stands",
+    "leastrules": "least_rules greatest_rules needed_guards",
 }
 
 if __name__ == "__main__":

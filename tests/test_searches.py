@@ -4,7 +4,6 @@ import inspect
 import unittest
 
 from pagelives.closures import harms_of
-from pagelives.deedbars import deeds_at
 from pagelives.deedrows import Deeds
 from pagelives.errors import NotUsable
 from pagelives.historychecker import is_history
@@ -12,27 +11,16 @@ from pagelives.kinds import GUARDS, HARMS
 from pagelives.searches import harm_history
 from pagelives.stops import harms_now
 from pagelives.storeharms import harms_at
-from pagelives.storesteps import FIRST, store_behind
-from tests.draws import Draws
+from tests.draws import Draws, deeds_tried
 from tests.samples import ALL, ODD, Case
 
 
 def shortest(rule, most):
     """The least number of deeds, up to most, with which each harm happens in a store of the page a."""
     found = {}
-    seen = {FIRST}
-    last = [FIRST]
-    for many in range(1, most + 1):
-        new = []
-        for store in last:
-            for deed in deeds_at(rule, store, ("a",)):
-                for harm, _ in harms_at(store, deed):
-                    found.setdefault(harm, many)
-                behind = store_behind(rule, store, deed)
-                if behind not in seen:
-                    seen.add(behind)
-                    new.append(behind)
-        last = new
+    for many, store, deed in deeds_tried(rule, most, ("a",)):
+        for harm, _ in harms_at(store, deed):
+            found.setdefault(harm, many + 1)
     return found
 
 

@@ -187,9 +187,7 @@ class Drawn(Case):
         found = set()
         for n in range(240):
             rule = draws.some_of(ALL, 5)
-            start = draws.one_of(STARTS)
-            start = start if is_history(rule, start) else ()
-            history = draws.history(rule, 10, ("a", "b")[:1 + n % 2], start)
+            history = draws.history(rule, 10, ("a", "b")[:1 + n % 2], STARTS)
             model = Model(rule)
             for k, deed in enumerate(history):
                 harms = model.do(deed)

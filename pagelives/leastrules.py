@@ -1,0 +1,68 @@
+"""The least rules without harms, and the greatest ones with one."""
+
+from pagelives.closures import is_harmless
+from pagelives.kinds import HARMS, are_harms, is_rule
+from pagelives.orders import ascending
+from pagelives.usable import need
+
+MOST_GUARDS = 8
+
+
+def least_rules(*, harms=HARMS, guards, always=()):
+    """The good sets of some of guards that include no other good one."""
+    need_choice(harms, guards, always)
+    good = told_good(harms, guards, always)
+    return ascending([some for some in good if good[some] and not any([good[less] for less in one_less(some)])])
+
+
+def greatest_rules(*, harms=HARMS, guards, always=()):
+    """The sets of some of guards that are not good and lie in no other one that is not."""
+    need_choice(harms, guards, always)
+    good = told_good(harms, guards, always)
+    bad = [some for some in good if not good[some]]
+    return ascending([some for some in bad if all([good[more] for more in one_more(some, guards)])])
+
+
+def needed_guards(rule, *, harms=HARMS):
+    """The set of the guards without each of which alone one of these harms can happen."""
+    # is_harmless refuses what is no rule, then what are no harms; only then the rule is refused for a harm.
+    need(is_harmless(rule, harms=harms), "rule")
+    return tuple([guard for guard, less in zip(rule, one_less(rule)) if not is_harmless(less, harms=harms)])
+
+
+def need_choice(harms, guards, always):
+    """Refuse what is not as stated, in the order of the parameters."""
+    need(are_harms(harms), "harms")
+    need(is_rule(guards) and len(guards) <= MOST_GUARDS, "guards")
+    need(is_rule(always), "always")
+
+
+def told_good(harms, guards, always):
+    """For each set of some of guards, whether none of harms can happen by it together with always.
+
+    Each set comes behind those that lie in it: one that includes a good set
+    is good, and needs no look at its stands.
+    """
+    good = {}
+    for some in sets_of(guards):
+        includes = any([good[less] for less in one_less(some)])
+        good[some] = includes or is_harmless(ascending(some + always), harms=harms)
+    return good
+
+
+def sets_of(guards):
+    """The list of the sets of some of guards, each behind those that lie in it."""
+    found = [()]
+    for guard in guards:
+        found = found + [(*some, guard) for some in found]
+    return found
+
+
+def one_less(some):
+    """The sets with one guard less, in the order of the guards that are left out."""
+    return [some[:k] + some[k + 1:] for k in range(len(some))]
+
+
+def one_more(some, guards):
+    """The sets with one more of guards."""
+    return [ascending((*some, guard)) for guard in guards if guard not in some]
