@@ -1,6 +1,7 @@
 """Whether a value is a harm paper."""
 
 from pagelives.errors import InvalidPaper
+from pagelives.histories import gone_through
 from pagelives.historychecker import lets_history
 from pagelives.kinds import is_harm, is_rule
 from pagelives.standchecker import lets_stands
@@ -28,3 +29,9 @@ def lets_harm(rule, harm, thing):
 def brings(rule, history, harm):
     """Whether some deed of a history by the rule brings the harm to some page."""
     return any([pair[0] == harm for pairs in harms_brought(rule, FIRST, history) for pair in pairs])
+
+
+def shows_harm(rule, harm, thing):
+    """Whether a value is a history by the rule of which some deed brings the harm."""
+    _, fault = gone_through(rule, thing)
+    return fault is None and brings(rule, thing, harm)

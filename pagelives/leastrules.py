@@ -1,5 +1,6 @@
 """The least rules without harms, and the greatest ones with one."""
 
+from pagelives.choices import greatest_of, least_of, sets_of
 from pagelives.closures import is_harmless
 from pagelives.kinds import HARMS, are_harms, is_rule
 from pagelives.orders import ascending
@@ -11,16 +12,13 @@ MOST_GUARDS = 8
 def least_rules(*, harms=HARMS, guards, always=()):
     """The good sets of some of guards that include no other good one."""
     need_choice(harms, guards, always)
-    good = told_good(harms, guards, always)
-    return ascending([some for some in good if good[some] and not any([good[less] for less in one_less(some)])])
+    return least_told(told_good(harms, guards, always))
 
 
 def greatest_rules(*, harms=HARMS, guards, always=()):
     """The sets of some of guards that are not good and lie in no other one that is not."""
     need_choice(harms, guards, always)
-    good = told_good(harms, guards, always)
-    bad = [some for some in good if not good[some]]
-    return ascending([some for some in bad if all([good[more] for more in one_more(some, guards)])])
+    return greatest_told(told_good(harms, guards, always))
 
 
 def needed_guards(rule, *, harms=HARMS):
@@ -46,23 +44,25 @@ def told_good(harms, guards, always):
     good = {}
     for some in sets_of(guards):
         includes = any([good[less] for less in one_less(some)])
-        good[some] = includes or is_harmless(ascending(some + always), harms=harms)
+        good[some] = includes or is_harmless(together(some, always), harms=harms)
     return good
 
 
-def sets_of(guards):
-    """The list of the sets of some of guards, each behind those that lie in it."""
-    found = [()]
-    for guard in guards:
-        found = found + [(*some, guard) for some in found]
-    return found
+def least_told(good):
+    """The good sets that include no other good one, where it is told which are good."""
+    return least_of([some for some in good if good[some]])
+
+
+def greatest_told(good):
+    """The sets that are not good and lie in no other one that is not, where it is told which are good."""
+    return greatest_of([some for some in good if not good[some]])
+
+
+def together(some, always):
+    """The rule of the guards of a set and those in always."""
+    return ascending(some + always)
 
 
 def one_less(some):
     """The sets with one guard less, in the order of the guards that are left out."""
     return [some[:k] + some[k + 1:] for k in range(len(some))]
-
-
-def one_more(some, guards):
-    """The sets with one more of guards."""
-    return [ascending((*some, guard)) for guard in guards if guard not in some]

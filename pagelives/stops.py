@@ -14,22 +14,30 @@ def going_deeds(rule, history):
 
 def left_by_stop(rule, history):
     """The pairs (page, set) of the pages of the history behind a stop now."""
-    store = usable_store(rule, history)
-    behind = store_through(rule, store, deeds_of_stop(store))
-    return tuple([(row[0], row[3]) for row in behind[4]])
+    return left_behind(rule, usable_store(rule, history))
 
 
 def harms_by_stop(rule, history):
     """The set of the pairs (harm, page) that a stop now brings."""
-    store = usable_store(rule, history)
-    brought = harms_brought(rule, store, deeds_of_stop(store))
-    return ascending([pair for pairs in brought for pair in pairs])
+    return harms_behind(rule, usable_store(rule, history))
 
 
 def harms_now(rule, history):
     """The set of the pairs (harm, page) of the last deed of the history."""
     usable_store(rule, history)
     return last_harms(harms_brought(rule, FIRST, history))
+
+
+def left_behind(rule, store):
+    """The pairs (page, set) of the pages of a store that stops now."""
+    behind = store_through(rule, store, deeds_of_stop(store))
+    return tuple([(row[0], row[3]) for row in behind[4]])
+
+
+def harms_behind(rule, store):
+    """The set of the pairs (harm, page) that a stop of a store now brings."""
+    brought = harms_brought(rule, store, deeds_of_stop(store))
+    return ascending([pair for pairs in brought for pair in pairs])
 
 
 def last_harms(brought):

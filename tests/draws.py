@@ -40,6 +40,32 @@ class Draws:
         return history
 
 
+    def stretch(self, rule, many, pages, starts=((),)):
+        """Likewise a history without stop, put and end, perhaps shorter where no other deed is possible."""
+        history = self.one_of(starts)
+        if not is_history(rule, history):
+            history = ()
+        while len(history) < many:
+            deeds = [deed for deed in deeds_now(rule, history, *pages) if deed != ("stop",)]
+            if not deeds:
+                break
+            deed = self.one_of(deeds)
+            if deed[0] == "point":
+                deed = self.one_of(deeds)
+            history = history + (deed,)
+        return history
+
+
+def short_stretches(rule, many, pages):
+    """All stretches by the rule with at most so many deeds, of these pages."""
+    found = last = [()]
+    for _ in range(many):
+        last = [history + (deed,) for history in last for deed in deeds_now(rule, history, *pages)
+                if deed != ("stop",)]
+        found = found + last
+    return found
+
+
 def short_histories(rule, many, pages):
     """All histories by the rule with at most so many deeds, of these pages."""
     found = last = [()]

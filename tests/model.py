@@ -1,4 +1,6 @@
-"""A second telling of [3] to [7], [31] and [33], written apart from the program."""
+"""A second telling of [3] to [7], [31], [33] and [47], written apart from the program."""
+
+import copy
 
 
 class Model:
@@ -125,6 +127,29 @@ class Model:
 
     def stands(self, page):
         return {self.stand(page, content) for content in self.disk(page)}
+
+
+def models_along(rule, history):
+    """The models at each moment of a stretch."""
+    models = [Model(rule)]
+    for deed in history:
+        models.append(copy.deepcopy(models[-1]))
+        models[-1].do(deed)
+    return models
+
+
+def stop_without(model, out=()):
+    """What a stop now leaves, and its harms, in the stretch without the records at these indexes."""
+    model = copy.deepcopy(model)
+    model.sealed, model.point = [end - len([k for k in out if k < end]) for end in (model.sealed, model.point)]
+    model.records = [record for k, record in enumerate(model.records) if k not in out]
+    harms = model.do(("stop",))
+    for page in sorted({name for _, name, _ in model.records}):
+        if model.told(page)[4] is not None:
+            harms = harms | model.do(("put", page))
+    harms = harms | model.do(("end",))
+    left = tuple([(page, tuple(sorted(model.disks[page]))) for page in sorted(model.disks)])
+    return left, tuple(sorted(harms))
 
 
 LIES = {"free": ("under",), "kept": ("under", "due", "over"), "plain": ("under", "own", "over")}
