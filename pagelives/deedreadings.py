@@ -1,7 +1,7 @@
 """Deeds, records and rules read from texts."""
 
 from pagelives.errors import InvalidRow, InvalidText
-from pagelives.kinds import deed_parts, is_page, is_rule, record_parts
+from pagelives.kinds import deed_parts, is_page, is_rule, is_switch, record_parts
 from pagelives.usable import need
 
 DIGITS = "0123456789"
@@ -25,7 +25,7 @@ def read_record(text):
 def read_rule(text):
     """The rule that a string writes."""
     need(isinstance(text, str), "text")
-    guards = () if text == "-" else tuple(text.split(","))
+    guards = guards_read(text)
     if not is_rule(guards):
         raise InvalidRow(text)
     return guards
@@ -74,6 +74,10 @@ def can_stand(word, kind):
     """Whether a word writes a part of this kind."""
     if kind == "page":
         return is_page(word)
+    if kind == "switch":
+        return is_switch(word)
+    if kind == "rule":
+        return is_rule(guards_read(word))
     return writes_number(word)
 
 
@@ -86,5 +90,17 @@ def writes_number(word):
 
 def parts_read(words, kinds):
     """The tuple that words write, all of which can stand."""
-    parts = [word if kind == "page" else int(word) for word, kind in zip(words[1:], kinds)]
+    parts = [part_read(word, kind) for word, kind in zip(words[1:], kinds)]
     return (words[0], *parts)
+
+
+def part_read(word, kind):
+    """The part of this kind that a word writes, which can stand."""
+    if kind == "number":
+        return int(word)
+    return guards_read(word) if kind == "rule" else word
+
+
+def guards_read(word):
+    """The tuple of the guards that a word names, a rule or not."""
+    return () if word == "-" else tuple(word.split(","))

@@ -64,6 +64,11 @@ def are_harms(thing):
     return 0 < len(thing) == len(set(thing))
 
 
+def is_switch(thing):
+    """Whether a value is one of the words on and off."""
+    return isinstance(thing, str) and thing in ("on", "off")
+
+
 def deed_parts(word):
     """The kinds of what stands behind the word of a deed, None if no deed has it."""
     return DEED_PARTS.get(word)

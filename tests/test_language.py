@@ -102,7 +102,7 @@ class Code(unittest.TestCase):
             for node in tree.body:
                 self.assertIsInstance(node, (ast.Expr, ast.ImportFrom, ast.FunctionDef, ast.ClassDef, ast.Assign))
                 if isinstance(node, ast.Assign):
-                    ast.literal_eval(node.value)
+                    self.assertTrue(is_plain(node.value, functions_above(tree, node)), path)
             names = bound_names(tree) + [a.name for n in tree.body if isinstance(n, ast.ImportFrom) for a in n.names]
             self.assertEqual(len(names), len(set(names)), path)
 
@@ -123,13 +123,43 @@ class Code(unittest.TestCase):
             if node.name.startswith("__"):
                 self.assertIn(node.name, METHODS, name)
             for decorator in node.decorator_list:
-                self.assertIn(ast.unparse(decorator), ("property", "staticmethod", "classmethod"), name)
+                self.assertIn(ast.unparse(decorator),
+                              ("property", "staticmethod", "classmethod", f"{node.name}.setter"), name)
+
+    def test_interface_methods_stand_in_their_classes(self):
+        defined = {(path.stem, node.name): {part.name for part in node.body if isinstance(part, ast.FunctionDef)}
+                   for path, tree in trees() for node in tree.body if isinstance(node, ast.ClassDef)}
+        for place, names in CLASSES.items():
+            self.assertLessEqual(set(names.split()), defined[place])
+
+    def test_what_finally_and_exit_hold(self):
+        # They hold assignments of names and attributes alone.
+        ends = [part for _, node in nodes(ast.Try) for part in node.finalbody]
+        ends = ends + [part for _, node in nodes(ast.FunctionDef) if node.name == "__exit__" for part in node.body]
+        self.assertTrue(ends)
+        for part in ends:
+            self.assertIsInstance(part, ast.Assign)
+            self.assertIsInstance(part.value, (ast.Name, ast.Attribute))
 
     def test_sorted_takes_sets_alone(self):
         # Beside a class with an order, this is what may be sorted without a look at its kind.
         for name, node in nodes(ast.Call):
             if ast.unparse(node.func) == "sorted":
                 self.assertEqual(ast.unparse(node.args[0]).partition("(")[0], "set", name)
+
+
+def functions_above(tree, node):
+    """The names of the functions that a file defines above a statement of it."""
+    return [other.name for other in tree.body if isinstance(other, ast.FunctionDef) and other.lineno < node.lineno]
+
+
+def is_plain(value, functions):
+    """Whether a value at module level is plain, functions defined above it perhaps among its items."""
+    if isinstance(value, ast.Dict):
+        return all(is_plain(part, functions) for part in value.keys + value.values)
+    if isinstance(value, (ast.Tuple, ast.List)):
+        return all(is_plain(part, functions) for part in value.elts)
+    return isinstance(value, ast.Constant) or (isinstance(value, ast.Name) and value.id in functions)
 
 
 def bound_names(tree):
@@ -180,6 +210,36 @@ INTERFACE = {
     "likeness": "have_same_harms is_included have_same_histories parting_history",
     "standclasses": "Stands",
     "leastrules": "least_rules greatest_rules needed_guards",
+    "rulepapers": "rules_paper",
+    "rulechecker": "lets_rules",
+    "stretches": "is_stretch stops_along harms_along",
+    "strikes": "strikes_in least_strikes greatest_strikes strikes_paper",
+    "strikechecker": "lets_strikes",
+    "needless": "left_without needless_records",
+    "safepoints": "safe_points farthest_point",
+    "liveevents": "is_event",
+    "lives": "Live",
+    "liveslogs": "is_story replayed",
+    "livetexts": "event_line story_lines",
+    "livereadings": "read_event read_story",
+    "desks": "Desk",
+}
+
+CLASSES = {
+    ("rulevalues", "Rule"): "__init__ __contains__ __len__ __bool__ __iter__ __str__ __eq__ __le__ __or__ __and__ "
+    "__add__ __sub__ guards_now of every none",
+    ("rulevalues", "Without"): "__init__ left_now",
+    ("deedrows", "Deeds"): "__init__ __getitem__ __contains__ __len__ __bool__ __iter__ __str__ __eq__ __le__ __add__ "
+    "__call__ deeds_now pages_now only of read",
+    ("storeclasses", "Store"): "__init__ __add__ __contains__ __getitem__ __len__ __bool__ __eq__ __le__ __str__ "
+    "rule_now history_now log_now store_now deeds_now harms_now",
+    ("storeclasses", "Careful"): "__init__ __add__",
+    ("standclasses", "Stands"): "__init__ __contains__ __len__ __iter__ __getitem__ __call__ __eq__ __le__ rule_now "
+    "harms_now",
+    ("lives", "Live"): "__init__ __iadd__ __getitem__ __contains__ __len__ __eq__ rule_now history_now store_now "
+    "log_now careful_now deeds_now harms_now left_now happen do_deed set_careful mark barred tried trial undo do_all "
+    "counts set_on made_since tally table story",
+    ("desks", "Desk"): "__init__ say counts",
 }
 
 if __name__ == "__main__":
