@@ -8,7 +8,8 @@ def sets_of(things):
     found = [()]
     for thing in things:
         found = found + [(*some, thing) for some in found]
-    return [some for _, some in ascending([(len(some), some) for some in found])]
+    sized = ascending([(len(part), part) for part in found])
+    return [some for _, some in sized]
 
 
 def lies_in(some, other):

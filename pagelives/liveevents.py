@@ -5,7 +5,7 @@ from pagelives.kinds import is_deed, is_page, is_switch
 
 def is_event(thing):
     """Whether a value is an event by kind."""
-    if not isinstance(thing, tuple) or len(thing) != 2 or not isinstance(thing[0], str):
+    if not isinstance(thing, tuple) or len(thing) != 2:
         return False
     word, part = thing
     if word == "deed":

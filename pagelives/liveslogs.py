@@ -19,7 +19,7 @@ def is_beginning(thing):
     if not isinstance(thing, tuple) or len(thing) != 3:
         return False
     word, rule, careful = thing
-    return isinstance(word, str) and word == "live" and is_rule(rule) and is_switch(careful)
+    return word == "live" and is_rule(rule) and is_switch(careful)
 
 
 def replayed(story):

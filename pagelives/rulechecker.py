@@ -3,7 +3,7 @@
 from pagelives.choices import are_tuples, first_left, is_pair, least_of, lies_in
 from pagelives.errors import InvalidPaper
 from pagelives.harmchecker import shows_harm
-from pagelives.kinds import HARMS, is_harm, is_rule
+from pagelives.kinds import HARMS, is_rule
 from pagelives.leastrules import need_choice, together
 from pagelives.standchecker import stands_fault
 
@@ -43,7 +43,7 @@ def bad_fault(part, harms, guards, always):
     some, harm, history = part
     if not is_choice(some, guards):
         return "set"
-    if not is_harm(harm) or harm not in harms:
+    if harm not in harms:
         return "harm"
     if not shows_harm(together(some, always), harm, history):
         return "history"

@@ -2,7 +2,7 @@
 
 from pagelives.choices import are_tuples, first_left, is_pair, least_of, lies_in
 from pagelives.errors import InvalidPaper
-from pagelives.kinds import is_number, is_page
+from pagelives.kinds import is_number
 from pagelives.orders import is_ascending
 from pagelives.stretchtelling import usable_stores
 from pagelives.striketelling import old_pages, old_stops, strikes_of
@@ -40,6 +40,4 @@ def is_choice(thing, strikes):
 
 def is_old_stop(rule, stores, some, n, page):
     """Whether n is a moment, and a stop then brings the harm old on the page, with these strikes alone."""
-    if not is_number(n) or n >= len(stores) or not is_page(page):
-        return False
-    return page in old_pages(rule, stores[n], some)
+    return is_number(n) and n < len(stores) and page in old_pages(rule, stores[n], some)

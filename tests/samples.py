@@ -15,6 +15,14 @@ def nested(many, inner):
     return inner
 
 
+def parts(things):
+    """All sets of some of these things."""
+    found = [()]
+    for thing in things:
+        found = found + [some + (thing,) for some in found]
+    return found
+
+
 # Values of all kinds; none of them is a page, a deed, a record, a rule, a log or a history.
 ODD = (
     None, True, False, 0, 1, -1, SIXTY, -SIXTY,

@@ -1,10 +1,13 @@
-"""[9], (L1), (L2) and (L5): sets are exact, told by stores of which each page has one content on its disk."""
+"""[9], (L1), (L2), (L5) and (L6): sets are exact, told by stores of which each page has one content on its disk."""
 
 import unittest
 
 from pagelives.deedbars import deeds_now
 from pagelives.looks import set_on
+from pagelives.stops import going_deeds
 from pagelives.stores import store_after
+from pagelives.stretches import stops_along
+from tests.draws import short_stretches
 from tests.samples import ALL, Case
 
 
@@ -61,6 +64,11 @@ class Disk:
             self.disks = self.disks | {self.held}
 
 
+def named(history):
+    """Whether some deed names the page a."""
+    return "a" in [part for deed in history for part in deed[1:]]
+
+
 def histories(rule, many):
     """All histories by the rule with so many deeds, of the page a."""
     last = [()]
@@ -96,6 +104,16 @@ class Exact(Case):
 
 
 class Stops(Case):
+    def test_a_stop_at_each_moment(self):
+        # (L6): what it leaves on the page is what some times of reaching the disk leave.
+        for rule, many in (((), 5), (("ahead",), 5), (ALL, 6)):
+            for history in short_stretches(rule, many, ("a",)):
+                disk = Disk(rule)
+                for deed in history + going_deeds(rule, history):
+                    disk.do(deed)
+                if history:
+                    self.same(stops_along(rule, history)[-1], (("a", tuple(sorted(disk.disks))),) if named(history) else ())
+
     def test_stops_and_the_order_of_puts_change_nothing(self):
         start = (("keep", "a"), ("keep", "b"), ("seal",), ("write", "b"), ("plain", "c"), ("write", "c"), ("seal",))
         puts = (("put", "a"), ("put", "b"))

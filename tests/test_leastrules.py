@@ -8,20 +8,12 @@ from pagelives.errors import NotUsable
 from pagelives.kinds import GUARDS, HARMS
 from pagelives.leastrules import greatest_rules, least_rules, needed_guards
 from tests.draws import Draws
-from tests.samples import ALL, ODD, Case
+from tests.samples import ALL, ODD, Case, parts
 
 EIGHT = ("ahead", "calm", "clean", "dead", "first", "fixed", "level", "quiet")
 ENOUGH = ("ahead", "calm", "clean", "dead", "first", "fixed", "level")
 BUT_DEAD = ("ahead", "calm", "clean", "first", "fixed", "level")
 ALL_HARMS = (("old",), ("missed",), ("open",), ("old", "open"), ("open", "missed"), HARMS, HARMS[::-1])
-
-
-def parts(guards):
-    """All sets of some of guards."""
-    found = [()]
-    for guard in guards:
-        found = found + [some + (guard,) for some in found]
-    return found
 
 
 def good_parts(harms, guards, always):

@@ -10,7 +10,7 @@ from pagelives.strikechecker import lets_strikes
 from pagelives.strikes import greatest_strikes, least_strikes, strikes_in, strikes_paper
 from tests.draws import Draws
 from tests.model import models_along, stop_without
-from tests.samples import ALL, ODD, OLD, Case
+from tests.samples import ALL, ODD, OLD, Case, parts
 
 TWICE = OLD[:3] + (("strike", "a"), ("strike", "a")) + OLD[3:6]
 MANY = read_deeds("keep a\nkeep b\nfree a\nfree b\nstrike a\nstrike b\nplain a\nplain b\nwrite a\nwrite b\nseal")
@@ -19,14 +19,6 @@ FIVE = read_deeds("strike a\nkeep a\nfree a\nstrike a\nstrike b\nstrike a\nplain
 LIVES = read_deeds("keep a\nfree a\nstrike a\nplain a\nwrite a\nseal\nfree a\nkeep a\nfree a\nstrike a\nplain a\nwrite a"
                    "\nseal")
 ENOUGH_BY_POINT = read_deeds("keep a\nseal\nfree a\nstrike a\nseal\npoint 1\nplain a\nwrite a\nseal")
-
-
-def parts(things):
-    """All sets of some of these things."""
-    found = [()]
-    for thing in things:
-        found = found + [some + (thing,) for some in found]
-    return found
 
 
 def old_stops(rule, history, some):
